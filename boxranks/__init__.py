@@ -1,0 +1,1 @@
+"""Diagrams: circles broken, and ranks."""
