@@ -85,7 +85,6 @@ class Moves(unittest.TestCase):
 
     def test_moved_in_a_third_pass(self):
         told = self.CHAIN + "edge T->W;edge V->U;edge U->S;edge U->S;" + "edge S->W;" * 3
-        self.assertEqual(ranks_of(boxes("VUSPQRTW"), 8), [0] * 8)
         self.assertEqual(ranks_of(boxes("VUSPQRTW") + told, 8), [1, 2, 3, 0, 1, 2, 3, 4])
 
     def test_order_of_boxes_in_the_text_is_the_order_of_moves(self):
