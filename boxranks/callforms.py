@@ -7,6 +7,12 @@ BOX = 3
 EDGE = 4
 TURNED = 5
 CIRCLE = 6
+RANKS = 7
+RANK = 8
+LENGTHS = 9
+WAY = 10
+PARTS = 11
+GREEDY = 12
 
 # How many whole numbers stand behind each call's number: load (which has a row in their place), shown, sizes, box,
 # edge, turned, circle, ranks, rank, lengths, way, parts, greedy.

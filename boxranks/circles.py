@@ -16,13 +16,6 @@ def is_least_set_told(circling):
     return len(circling) <= MOST_FOR_LEAST_SET
 
 
-def turned_edges(edges, wishes, circling):
-    """The numbers of the edges that are turned, where the edges on circles are known."""
-    if is_least_set_told(circling):
-        return least_set(edges, wishes, circling)
-    return edges_not_kept(edges, wishes)
-
-
 def edges_not_kept(edges, wishes):
     """The numbers of the edges that close a circle with the wishes and the edges kept before them."""
     kept = list(wishes)

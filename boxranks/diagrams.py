@@ -1,17 +1,14 @@
 """The calls on one object, which holds a diagram or none, and their answers."""
 
-from boxranks.callforms import BOX, CIRCLE, EDGE, LOAD, SHOWN, SIZES, TURNED, calls_read
-from boxranks.circles import is_least_set_told
+from boxranks.callforms import BOX, CIRCLE, EDGE, LENGTHS, LOAD, PARTS, RANK, RANKS, SHOWN, SIZES, TURNED, calls_read
 from boxranks.faults import Fault
+from boxranks.parts import least_together
+from boxranks.ranking import edge_length, lengths_together
 from boxranks.shapes import diagram_of, one_form
 from boxranks.ways import first_way
 
 NO_DIAGRAM = -1
 NO_SUCH = -2
-
-
-class NotBuilt(NotImplementedError):
-    """A call is asked for that the program does not answer yet."""
 
 
 class Holder:
@@ -51,24 +48,39 @@ def answers(calls):
 
 def answer_of(diagram, call, given):
     """What a diagram answers to a call other than load."""
-    if call == SHOWN:
-        return as_text(one_form(diagram))
-    if call == SIZES:
-        return [len(diagram.boxes), len(diagram.edges), len(diagram.wishes), len(diagram.circling)]
+    if len(given) == 0:
+        return answer_of_all(diagram, call)
     if call == BOX:
         return box_answer(diagram, given[0])
     if call == EDGE:
         return edge_answer(diagram, given[0])
-    if call == TURNED:
-        return turned_answer(diagram)
     if call == CIRCLE:
         return circle_answer(diagram, given[0])
-    raise NotBuilt(f"call {call} is not built yet")
+    if call == RANK:
+        return rank_answer(diagram, given[0])
+    return way_answer(diagram, given[0], given[1])
 
 
-def as_text(spelling):
-    """A text as it stands in an answer: how many bytes, then they."""
-    return [len(spelling)] + list(spelling)
+def answer_of_all(diagram, call):
+    """What a diagram answers to a call with which no number is given."""
+    if call == SHOWN:
+        return counted(one_form(diagram))
+    if call == SIZES:
+        return [len(diagram.boxes), len(diagram.edges), len(diagram.wishes), len(diagram.circling)]
+    if call == TURNED:
+        return counted(diagram.turned) + [1 if diagram.is_least else 0]
+    if call == RANKS:
+        return ranks_answer(diagram)
+    if call == LENGTHS:
+        return lengths_answer(diagram)
+    if call == PARTS:
+        return parts_answer(diagram)
+    return greedy_answer(diagram)
+
+
+def counted(told):
+    """Bytes or numbers as they stand in an answer: how many, then they."""
+    return [len(told)] + list(told)
 
 
 def is_number_of(number, things):
@@ -81,7 +93,7 @@ def box_answer(diagram, number):
     if not is_number_of(number, diagram.boxes):
         return [NO_SUCH]
     box = diagram.boxes[number]
-    return [diagram.ranks[number], box[1], box[2]] + as_text(box[0])
+    return [diagram.ranks[number], box[1], box[2]] + counted(box[0])
 
 
 def edge_answer(diagram, number):
@@ -89,16 +101,9 @@ def edge_answer(diagram, number):
     if not is_number_of(number, diagram.edges):
         return [NO_SUCH]
     told = diagram.edges[number]
-    down = diagram.down[number]
     turned = 1 if number in diagram.turned else 0
-    length = diagram.ranks[down[1]] - diagram.ranks[down[0]]
-    return [told[0], told[1], turned, length] + as_text(diagram.labels[number])
-
-
-def turned_answer(diagram):
-    """How many edges are turned, which, and whether they are a least set."""
-    least = 1 if is_least_set_told(diagram.circling) else 0
-    return [len(diagram.turned)] + diagram.turned + [least]
+    length = edge_length(diagram.down[number], diagram.ranks)
+    return [told[0], told[1], turned, length] + counted(diagram.labels[number])
 
 
 def circle_answer(diagram, number):
@@ -106,5 +111,43 @@ def circle_answer(diagram, number):
     if not is_number_of(number, diagram.edges):
         return [NO_SUCH]
     edge = diagram.edges[number]
-    way = first_way(diagram.edges + diagram.wishes, edge[1], edge[0])
-    return [len(way)] + way
+    return counted(first_way(diagram.edges + diagram.wishes, edge[1], edge[0]))
+
+
+def ranks_answer(diagram):
+    """How many ranks there are, and each box's."""
+    return [len(set(diagram.ranks))] + diagram.ranks
+
+
+def rank_answer(diagram, number):
+    """The boxes that stand on a rank."""
+    standing = [box for box, rank in enumerate(diagram.ranks) if rank == number]
+    # No rank is empty, so a number at which no box stands is no rank.
+    if len(standing) == 0:
+        return [NO_SUCH]
+    return counted(standing)
+
+
+def lengths_answer(diagram):
+    """The lengths of all edges together, now and before boxes were moved."""
+    return [lengths_together(diagram.down, diagram.ranks), lengths_together(diagram.down, diagram.first_ranks)]
+
+
+def way_answer(diagram, start, goal):
+    """The first shortest way from a box to another one, along edges as they go down."""
+    if not is_number_of(start, diagram.boxes):
+        return [NO_SUCH]
+    if not is_number_of(goal, diagram.boxes):
+        return [NO_SUCH]
+    return counted(first_way(diagram.down, start, goal))
+
+
+def parts_answer(diagram):
+    """How many parts there are, and for each box the least number of a box in its part."""
+    least = least_together(len(diagram.boxes), diagram.edges)
+    return [len(set(least))] + least
+
+
+def greedy_answer(diagram):
+    """The edges that are not kept, also where a least set is turned."""
+    return counted(diagram.not_kept)

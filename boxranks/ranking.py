@@ -1,9 +1,9 @@
 """On which ranks boxes stand. All edges and wishes given here go down, without a circle."""
 
 
-def box_ranks(boxes, edges, wishes):
-    """Each box's rank, where there are so many boxes."""
-    return without_empty_ranks(moved_ranks(longest_ranks(boxes, edges + wishes), edges, wishes))
+def box_ranks(first_ranks, edges, wishes):
+    """Each box's rank, where the ranks by longest ways are known."""
+    return without_empty_ranks(moved_ranks(first_ranks, edges, wishes))
 
 
 def longest_ranks(boxes, arcs):
@@ -58,3 +58,13 @@ def without_empty_ranks(ranks):
     """The ranks when those on which no box stands are taken out."""
     used = sorted(set(ranks))
     return [used.index(rank) for rank in ranks]
+
+
+def edge_length(edge, ranks):
+    """How many ranks an edge goes down."""
+    return ranks[edge[1]] - ranks[edge[0]]
+
+
+def lengths_together(edges, ranks):
+    """The lengths of all edges together."""
+    return sum([edge_length(edge, ranks) for edge in edges])

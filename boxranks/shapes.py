@@ -1,9 +1,9 @@
 """Diagrams as they are held: boxes, edges and wishes by their numbers, and what follows from them."""
 
-from boxranks.circles import edges_on_circles, going_down, turned_edges
+from boxranks.circles import edges_not_kept, edges_on_circles, going_down, is_least_set_told, least_set
 from boxranks.drafts import draft_of
 from boxranks.faults import Fault
-from boxranks.ranking import box_ranks
+from boxranks.ranking import box_ranks, longest_ranks
 from boxranks.tokens import spelled, tokens_of
 from boxranks.ways import leads
 
@@ -25,9 +25,12 @@ class Diagram:
         self.labels = labels
         self.wishes = wishes
         self.circling = edges_on_circles(edges, wishes)
-        self.turned = turned_edges(edges, wishes, self.circling)
+        self.not_kept = edges_not_kept(edges, wishes)
+        self.is_least = is_least_set_told(self.circling)
+        self.turned = least_set(edges, wishes, self.circling) if self.is_least else self.not_kept
         self.down = going_down(edges, self.turned)
-        self.ranks = box_ranks(len(boxes), self.down, wishes)
+        self.first_ranks = longest_ranks(len(boxes), self.down + wishes)
+        self.ranks = box_ranks(self.first_ranks, self.down, wishes)
 
 
 def diagram_of(text):

@@ -5,6 +5,10 @@ from boxranks.diagrams import answers
 SHOWN = [1]
 SIZES = [2]
 TURNED = [5]
+RANKS = [7]
+LENGTHS = [9]
+PARTS = [11]
+GREEDY = [12]
 FAR = 10 ** 18
 
 CYCLE = (
@@ -36,6 +40,14 @@ def circle(number):
     return [6, number]
 
 
+def rank(number):
+    return [8, number]
+
+
+def way(start, goal):
+    return [10, start, goal]
+
+
 def split(told):
     """The answers in a list given back, one list for each call."""
     found = []
@@ -65,8 +77,12 @@ def ask_of(text, *calls):
 
 
 def ranks_of(text, boxes):
-    """The ranks of so many boxes."""
-    return [answer[0] for answer in ask_of(text, *[box(number) for number in range(boxes)])]
+    """The ranks of so many boxes, which box and ranks have to tell alike."""
+    told, *found = ask_of(text, RANKS, *[box(number) for number in range(boxes)])
+    ranks = [answer[0] for answer in found]
+    if told != [len(set(ranks))] + ranks:
+        raise AssertionError(f"ranks {told}, box by box {ranks}")
+    return ranks
 
 
 def turned_in(text):
@@ -98,15 +114,36 @@ def thrown_arcs(dice, boxes, many):
     return arcs
 
 
-def thrown_diagram(seed):
-    """Boxes, edges and wishes of a diagram; the wishes close no circle, as they all go one way."""
-    dice = Numbers(seed)
+def thrown_order(dice, boxes):
+    """For each box its place in an order of all boxes."""
+    order = []
+    for number in range(boxes):
+        order.insert(dice.below(number + 1), number)
+    return order
+
+
+def thrown_counts(dice, seed):
+    """How many boxes, edges and wishes: each tenth time as many as there may be, each fifth time no wish."""
+    if seed % 10 == 9:
+        return 24, 40, 16
     boxes = 2 + dice.below(7 if seed % 3 else 23)
-    edges = thrown_arcs(dice, boxes, dice.below(13 if seed % 2 else 41))
-    flip = dice.below(2)
-    wishes = [(max(arc), min(arc)) if flip else (min(arc), max(arc))
-              for arc in thrown_arcs(dice, boxes, dice.below(5))]
-    return boxes, edges, wishes
+    edges = dice.below(13 if seed % 2 else 41)
+    return boxes, edges, 0 if seed % 5 == 0 else dice.below(5 if seed % 4 else 17)
+
+
+def thrown_diagram(seed):
+    """Boxes, edges and wishes of a diagram; the wishes close no circle, as they all keep to one order of the boxes.
+
+    All but few edges of each third diagram keep to it too, so that large diagrams with few circles are among them.
+    """
+    dice = Numbers(seed)
+    boxes, edges, wishes = thrown_counts(dice, seed)
+    order = thrown_order(dice, boxes)
+    arcs = thrown_arcs(dice, boxes, edges + wishes)
+    ordered = [arc if order[arc[0]] < order[arc[1]] else arc[::-1] for arc in arcs]
+    if seed % 3 == 0:
+        arcs = [arcs[k] if dice.below(20) == 0 else ordered[k] for k in range(len(arcs))]
+    return boxes, arcs[:edges], ordered[edges:]
 
 
 def written(boxes, edges, wishes):

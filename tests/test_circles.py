@@ -2,7 +2,7 @@
 
 import unittest
 
-from helper import CYCLE, SIZES, SLACK, TURNED, ask_of, edge, turned_in
+from helper import CYCLE, GREEDY, SIZES, SLACK, TURNED, ask_of, edge, turned_in
 
 AB = "box A;box B;"
 ABC = AB + "box C;"
@@ -103,3 +103,43 @@ class TenAndEleven(unittest.TestCase):
         text = AB + "edge A->B;" * 6 + "edge B->A;" * 6
         self.assertEqual(turned_in(text), [6] + list(range(6, 12)) + [0])
         self.assertEqual(turned_in(text + "above B A;"), [6] + list(range(6)) + [0])
+
+
+class Greedy(unittest.TestCase):
+    def both(self, text, turned, greedy):
+        self.assertEqual(ask_of(text, TURNED, GREEDY), [turned, greedy])
+
+    def test_worked_texts(self):
+        self.both(CYCLE, [1, 2, 1], [1, 2])
+        self.both(SLACK, [0, 1], [0])
+
+    def test_no_circle(self):
+        self.both("", [0, 1], [0])
+        self.both(AB, [0, 1], [0])
+        self.both(AB + "edge A->B;" * 40, [0, 1], [0])
+
+    def test_other_edges_than_the_least_set(self):
+        self.both(AB + "edge A->B;edge B->A;", [1, 0, 1], [1, 1])
+        self.both(ABC + "edge A->B;edge B->C;edge C->A;", [1, 0, 1], [1, 2])
+
+    def test_more_edges_than_the_least_set(self):
+        self.both(AB + "edge A->B;" + "edge B->A;" * 3, [1, 0, 1], [3, 1, 2, 3])
+        self.both(AB + "edge A->B;" + "edge B->A;" * 9, [1, 0, 1], [9] + list(range(1, 10)))
+
+    def test_wishes_are_kept_wherever_they_stand(self):
+        self.both(AB + "edge A->B;edge B->A;above B A;", [1, 0, 1], [1, 0])
+        self.both("above B C;" + ABC + "edge C->A;edge A->B;", [1, 0, 1], [1, 1])
+
+    def test_edges_kept_before_alone_count(self):
+        # The edge 1 is not kept, so the edges 2 and 3 close no circle with it.
+        self.both(ABC + "edge A->B;edge B->A;edge A->C;edge C->B;", [1, 1, 1], [1, 1])
+
+    def test_more_than_10_edges_on_circles(self):
+        text = AB + "edge A->B;" * 3 + "edge B->A;" * 8
+        self.both(text, [8] + list(range(3, 11)) + [0], [8] + list(range(3, 11)))
+        self.both(AB + "edge A->B;edge B->A;" * 20, [20] + list(range(1, 40, 2)) + [0], [20] + list(range(1, 40, 2)))
+        self.both(AB + "above B A;" + "edge A->B;" * 40, [40] + list(range(40)) + [0], [40] + list(range(40)))
+
+    def test_10_edges_on_circles(self):
+        text = AB + "edge A->B;" * 3 + "edge B->A;" * 7
+        self.both(text, [3, 0, 1, 2, 1], [7] + list(range(3, 10)))

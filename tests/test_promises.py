@@ -3,7 +3,8 @@
 import itertools
 import unittest
 
-from helper import SIZES, TURNED, ask_of, box, circle, edge, thrown_diagram, written
+from helper import (GREEDY, LENGTHS, PARTS, RANKS, SIZES, TURNED, ask_of, box, circle, edge, rank, thrown_diagram, way,
+                    written)
 
 SEEDS = range(400)
 
@@ -15,9 +16,9 @@ def distances(boxes, arcs):
         far[begin][end] = 1
     for middle, begin, end in itertools.product(range(boxes), repeat=3):
         if far[begin][middle] is not None and far[middle][end] is not None:
-            way = far[begin][middle] + far[middle][end]
-            if far[begin][end] is None or way < far[begin][end]:
-                far[begin][end] = way
+            steps = far[begin][middle] + far[middle][end]
+            if far[begin][end] is None or steps < far[begin][end]:
+                far[begin][end] = steps
     return far
 
 
@@ -58,18 +59,22 @@ class Told:
 
     def __init__(self, seed):
         self.boxes, self.edges, self.wishes = thrown_diagram(seed)
-        calls = [SIZES, TURNED] + [box(k) for k in range(self.boxes)]
-        calls = calls + [edge(k) for k in range(len(self.edges))] + [circle(k) for k in range(len(self.edges))]
-        found = ask_of(written(self.boxes, self.edges, self.wishes), *calls)
-        self.circling = found[0][3]
-        self.turned = found[1][1:-1]
-        self.turned_count = found[1][0]
-        self.least = found[1][-1]
-        self.ranks = [answer[0] for answer in found[2:2 + self.boxes]]
-        self.edge_answers = found[2 + self.boxes:2 + self.boxes + len(self.edges)]
-        self.circles = found[2 + self.boxes + len(self.edges):]
+        self.text = written(self.boxes, self.edges, self.wishes)
+        sizes, turned, ranks, self.lengths, self.parts, self.greedy = ask_of(
+            self.text, SIZES, TURNED, RANKS, LENGTHS, PARTS, GREEDY)
+        self.circling = sizes[3]
+        self.turned = turned[1:-1]
+        self.turned_count = turned[0]
+        self.least = turned[-1]
+        self.ranks = ranks[1:]
+        self.ranks_count = ranks[0]
+        self.edge_answers = ask_of(self.text, *[edge(k) for k in range(len(self.edges))])
+        self.circles = ask_of(self.text, *[circle(k) for k in range(len(self.edges))])
         self.down = with_turned(self.edges, self.turned)
         self.arcs = self.edges + self.wishes
+        # All ways together may be more calls than there may be on one object, so each first box has one of its own.
+        self.ways = [ask_of(self.text, *[way(start, goal) for goal in range(self.boxes)])
+                     for start in range(self.boxes)]
 
 
 class Promises(unittest.TestCase):
@@ -82,6 +87,13 @@ class Promises(unittest.TestCase):
         self.assertTrue(any(told.circling == 11 for told in self.told))
         self.assertTrue(any(told.turned_count > 2 and told.least == 1 for told in self.told))
         self.assertTrue(any(told.ranks != longest_ranks(told.boxes, told.down + told.wishes) for told in self.told))
+        full = [told for told in self.told if (told.boxes, len(told.edges), len(told.wishes)) == (24, 40, 16)]
+        self.assertEqual({told.least for told in full}, {0, 1})
+        self.assertTrue(any(told.turned_count > 0 and told.least == 1 for told in full))
+        self.assertTrue(any(not told.wishes and told.circling > 10 for told in self.told))
+        self.assertTrue(any(told.least == 1 and told.greedy[0] > told.turned_count for told in self.told))
+        self.assertTrue(any(told.lengths[0] < told.lengths[1] for told in self.told))
+        self.assertTrue(any(2 < told.parts[0] < told.boxes for told in self.told))
 
     def test_edges_on_circles(self):
         for told in self.told:
@@ -115,15 +127,21 @@ class Promises(unittest.TestCase):
 
     def test_those_not_kept(self):
         for told in self.told:
+            kept = list(told.wishes)
+            not_kept = []
+            for number, arc in enumerate(told.edges):
+                if has_circle(told.boxes, kept + [arc]):
+                    not_kept.append(number)
+                else:
+                    kept.append(arc)
+            self.assertEqual(told.greedy, [len(not_kept)] + not_kept)
             if told.least == 0:
-                kept = list(told.wishes)
-                not_kept = []
-                for number, arc in enumerate(told.edges):
-                    if has_circle(told.boxes, kept + [arc]):
-                        not_kept.append(number)
-                    else:
-                        kept.append(arc)
                 self.assertEqual(told.turned, not_kept)
+
+    def test_1_no_smaller_set_than_a_least_one(self):
+        for told in self.told:
+            if told.least == 1:
+                self.assertLessEqual(told.turned_count, told.greedy[0])
 
     def test_2_all_go_down(self):
         for told in self.told:
@@ -140,7 +158,9 @@ class Promises(unittest.TestCase):
     def test_3_never_longer_than_by_longest_ways(self):
         for told in self.told:
             first = longest_ranks(told.boxes, told.down + told.wishes)
-            self.assertLessEqual(together(told.ranks, told.down), together(first, told.down))
+            self.assertEqual(told.lengths, [together(told.ranks, told.down), together(first, told.down)])
+            self.assertEqual(told.lengths[0], sum(answer[3] for answer in told.edge_answers))
+            self.assertLessEqual(told.lengths[0], told.lengths[1])
 
     def test_3_no_single_box_could_be_moved(self):
         for told in self.told:
@@ -175,33 +195,74 @@ class Promises(unittest.TestCase):
     def test_4_no_rank_is_empty_and_the_first_is_0(self):
         for told in self.told:
             self.assertEqual(set(told.ranks), set(range(max(told.ranks) + 1)))
+            self.assertEqual(told.ranks_count, max(told.ranks) + 1)
+
+    def test_ranks_rank_by_rank_and_box_by_box(self):
+        for told in self.told:
+            found = ask_of(told.text, *[rank(number) for number in range(-1, told.ranks_count + 1)])
+            self.assertEqual((found[0], found[-1]), ([-2], [-2]))
+            for number, answer in enumerate(found[1:-1]):
+                standing = [k for k in range(told.boxes) if told.ranks[k] == number]
+                self.assertEqual(answer, [len(standing)] + standing)
+                self.assertGreater(answer[0], 0)
+            found = ask_of(told.text, *[box(k) for k in range(told.boxes)])
+            self.assertEqual([answer[0] for answer in found], told.ranks)
+
+    def test_parts(self):
+        for told in self.told:
+            far = distances(told.boxes, told.edges + [arc[::-1] for arc in told.edges])
+            least = [min([k] + [other for other in range(told.boxes) if far[k][other] is not None])
+                     for k in range(told.boxes)]
+            self.assertEqual(told.parts, [len(set(least))] + least)
 
     def test_5_ways_lead_there_and_none_is_shorter(self):
         for told in self.told:
             far = distances(told.boxes, told.arcs)
             for number, (begin, end) in enumerate(told.edges):
-                way = told.circles[number][1:]
-                self.assertEqual(told.circles[number][0], len(way))
+                boxes = told.circles[number][1:]
+                self.assertEqual(told.circles[number][0], len(boxes))
                 if far[end][begin] is None:
-                    self.assertEqual(way, [])
+                    self.assertEqual(boxes, [])
                 else:
-                    self.assertEqual((way[0], way[-1], len(way)), (end, begin, far[end][begin] + 1))
-                    self.assertLessEqual(set(zip(way, way[1:])), set(told.arcs))
+                    self.assertEqual((boxes[0], boxes[-1], len(boxes)), (end, begin, far[end][begin] + 1))
+                    self.assertLessEqual(set(zip(boxes, boxes[1:])), set(told.arcs))
 
     def test_5_first_one_of_the_shortest(self):
         for told in self.told:
             for number, (begin, end) in enumerate(told.edges):
                 if told.circles[number] != [0]:
-                    self.assertEqual(told.circles[number][1:], self.first_way(told, end, begin))
+                    self.assertEqual(told.circles[number][1:], self.first_ways(told.arcs, end)[begin])
 
-    def first_way(self, told, start, goal):
-        """Ways kept whole, each longer by one box than those before."""
+    def test_5_ways_from_box_to_box(self):
+        for told in self.told:
+            far = distances(told.boxes, told.down)
+            for start, goal in itertools.product(range(told.boxes), repeat=2):
+                answer = told.ways[start][goal]
+                if start == goal:
+                    self.assertEqual(answer, [1, start])
+                elif far[start][goal] is None:
+                    self.assertEqual(answer, [0])
+                else:
+                    boxes = answer[1:]
+                    self.assertEqual(answer[0], len(boxes))
+                    self.assertEqual((boxes[0], boxes[-1], len(boxes)), (start, goal, far[start][goal] + 1))
+                    self.assertLessEqual(set(zip(boxes, boxes[1:])), set(told.down))
+
+    def test_5_first_one_of_the_shortest_from_box_to_box(self):
+        for told in self.told:
+            for start in range(told.boxes):
+                first = self.first_ways(told.down, start)
+                for goal in range(told.boxes):
+                    boxes = first.get(goal, [])
+                    self.assertEqual(told.ways[start][goal], [len(boxes)] + boxes)
+
+    def first_ways(self, arcs, start):
+        """For each box that is come to the way there; ways are kept whole, none shorter than those before it."""
         ways = [[start]]
         met = {start}
-        for way in ways:
-            if way[-1] == goal:
-                return way
-            for begin, end in told.arcs:
-                if begin == way[-1] and end not in met:
+        for boxes in ways:
+            for begin, end in arcs:
+                if begin == boxes[-1] and end not in met:
                     met.add(end)
-                    ways.append(way + [end])
+                    ways.append(boxes + [end])
+        return {boxes[-1]: boxes for boxes in ways}

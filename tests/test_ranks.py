@@ -3,7 +3,7 @@
 import unittest
 
 from boxranks.ranking import moved_ranks, without_empty_ranks
-from helper import CYCLE, SLACK, ask_of, edge, ranks_of
+from helper import CYCLE, FAR, LENGTHS, RANKS, SLACK, ask_of, edge, named_boxes, rank, ranks_of
 
 
 def lengths_in(text, edges):
@@ -91,6 +91,87 @@ class Moves(unittest.TestCase):
         # S holds U back until it is moved itself; either way both end as low as they can.
         told = self.CHAIN + "edge U->S;edge S->T;edge S->T;"
         self.assertEqual(ranks_of(boxes("SUPQRT") + told, 6), [2, 1, 0, 1, 2, 3])
+
+
+class RanksTold(unittest.TestCase):
+    def test_how_many_ranks_then_each_box(self):
+        self.assertEqual(ask_of(CYCLE, RANKS), [[3, 0, 1, 2, 1]])
+        self.assertEqual(ask_of(SLACK, RANKS), [[3, 0, 1, 2, 1]])
+        self.assertEqual(ask_of("", RANKS), [[0]])
+        self.assertEqual(ask_of("box A;", RANKS), [[1, 0]])
+        self.assertEqual(ask_of(named_boxes(24), RANKS), [[1] + [0] * 24])
+        self.assertEqual(ask_of(boxes("AB") + "above B A;", RANKS), [[2, 1, 0]])
+
+    def test_as_many_ranks_as_boxes(self):
+        chain = "".join(f"edge B{k + 1}->B{k};" for k in range(23))
+        self.assertEqual(ask_of(named_boxes(24) + chain, RANKS), [[24] + list(range(23, -1, -1))])
+
+
+class RankTold(unittest.TestCase):
+    def ranks_told(self, text, many):
+        """The boxes rank by rank; beside the first and the last rank there is none."""
+        found = ask_of(text, *[rank(number) for number in range(-1, many + 1)], rank(FAR), rank(-FAR))
+        self.assertEqual([found[0]] + found[many + 1:], [[-2]] * 4)
+        return found[1:many + 1]
+
+    def test_first_and_last_rank_and_beside_them(self):
+        self.assertEqual(self.ranks_told(CYCLE, 3), [[1, 0], [2, 1, 3], [1, 2]])
+        self.assertEqual(self.ranks_told(SLACK, 3), [[1, 0], [2, 1, 3], [1, 2]])
+        self.assertEqual(self.ranks_told("box A;", 1), [[1, 0]])
+        self.assertEqual(self.ranks_told("", 0), [])
+
+    def test_least_number_first(self):
+        self.assertEqual(self.ranks_told(named_boxes(24), 1), [[24] + list(range(24))])
+        self.assertEqual(self.ranks_told(boxes("ABCDE") + "edge E->D;edge E->B;edge C->A;edge C->B;", 2),
+                         [[2, 2, 4], [3, 0, 1, 3]])
+
+    def test_ranks_before_boxes_were_moved_do_not_count(self):
+        # By longest ways S would stand on the rank 0.
+        text = boxes("SPQR") + "edge P->Q;edge Q->R;edge S->R;"
+        self.assertEqual(self.ranks_told(text, 3), [[1, 1], [2, 0, 2], [1, 3]])
+
+    def test_as_many_ranks_as_boxes(self):
+        chain = "".join(f"above B{k} B{k + 1};" for k in range(16))
+        chain = chain + "".join(f"edge B{k}->B{k + 1};" for k in range(16, 23))
+        self.assertEqual(self.ranks_told(named_boxes(24) + chain, 24), [[1, number] for number in range(24)])
+
+
+class LengthsTold(unittest.TestCase):
+    def lengths(self, text):
+        return ask_of(text, LENGTHS)[0]
+
+    def test_worked_texts(self):
+        self.assertEqual(self.lengths(CYCLE), [8, 8])
+        self.assertEqual(self.lengths(SLACK), [3, 4])
+
+    def test_no_edges(self):
+        self.assertEqual(self.lengths(""), [0, 0])
+        self.assertEqual(self.lengths(boxes("AB")), [0, 0])
+
+    def test_no_box_moves(self):
+        self.assertEqual(self.lengths(boxes("ABC") + "edge A->B;edge B->C;edge A->C;"), [4, 4])
+
+    def test_boxes_move(self):
+        self.assertEqual(self.lengths(boxes("PQRTS") + Moves.CHAIN + "edge S->T;"), [4, 6])
+        self.assertEqual(self.lengths(boxes("USPQRT") + Moves.CHAIN + "edge U->S;edge S->T;edge S->T;"), [6, 8])
+
+    def test_edges_that_stand_twice_count_twice(self):
+        self.assertEqual(self.lengths(boxes("AB") + "edge A->B;edge A->B;"), [2, 2])
+        self.assertEqual(self.lengths(boxes("PQRS") + "edge P->Q;edge Q->R;edge S->R;edge S->R;"), [4, 6])
+        self.assertEqual(self.lengths(boxes("AB") + "edge A->B;" * 40), [40, 40])
+
+    def test_turned_edges_count_as_they_go_down(self):
+        self.assertEqual(self.lengths(boxes("AB") + "edge A->B;edge B->A;"), [2, 2])
+        self.assertEqual(self.lengths(boxes("AB") + "edge A->B;edge B->A;" * 20), [40, 40])
+
+    def test_wishes_have_no_length_but_make_edges_longer(self):
+        self.assertEqual(self.lengths(boxes("AB") + "above A B;"), [0, 0])
+        self.assertEqual(self.lengths(boxes("ABC") + "edge A->C;above A B;above B C;"), [2, 2])
+        self.assertEqual(self.lengths(boxes("PQRS") + "above P Q;above Q R;edge S->R;"), [1, 2])
+
+    def test_together_they_are_those_of_each_edge(self):
+        for text, edges in ((CYCLE, 6), (SLACK, 3)):
+            self.assertEqual(self.lengths(text)[0], sum(lengths_in(text, edges)))
 
 
 class Steps(unittest.TestCase):
